@@ -91,6 +91,15 @@ class Box:
         )
 
 
+def wide_box(wish, least, most, grow, shrink):
+    """A box for a part of a layout; its widths may be greater than those that Box takes."""
+    box = Box(0, 0, None, grow, shrink)
+    box._wish = wish
+    box._least = least
+    box._most = most
+    return box
+
+
 def weight_at(box, level):
     """The weight that counts at a level, a fraction."""
     return box.grow if level[0] >= 0 else box.shrink

@@ -1,6 +1,9 @@
 """Exact fractions: tuples (p, q) in lowest terms, q at least 1."""
 
-from math import gcd, lcm
+from math import gcd
+
+ZERO = (0, 1)
+ONE = (1, 1)
 
 
 def is_int(value):
@@ -42,6 +45,16 @@ def minus(one, two):
     return lowest(one[0] * two[1] - two[0] * one[1], one[1] * two[1])
 
 
+def times(one, two):
+    """The product of two fractions."""
+    return lowest(one[0] * two[0], one[1] * two[1])
+
+
+def over(one, two):
+    """The first fraction by the second one, which is above 0."""
+    return lowest(one[0] * two[1], one[1] * two[0])
+
+
 def order(one, two):
     """An integer: negative if the first fraction is less, 0 if both are equal, positive otherwise."""
     return one[0] * two[1] - two[0] * one[1]
@@ -59,9 +72,8 @@ def ceiling(value):
 
 def ascending(values):
     """The fractions of a list in ascending order, each once."""
-    # Over one common denominator, integers are sorted instead of fractions.
-    common = 1
-    for value in values:
-        common = lcm(common, value[1])
-    tops = sorted({p * (common // q) for p, q in values})
-    return [lowest(top, common) for top in tops]
+    # Two fractions differ by 1 / (q * q) or more, q the greatest denominator; so
+    # these integers are in the same order, and no two fractions have the same one.
+    scale = max([value[1] for value in values], default=1)
+    places = {p * scale * scale // q: (p, q) for p, q in values}
+    return [places[at] for at in sorted(places)]

@@ -72,11 +72,15 @@ def slope_above(box, level):
     return weight if moves else 0
 
 
+def sum_slope_above(boxes, level):
+    """How fast the sum of the sizes grows just above a level."""
+    return sum([slope_above(box, level) for box in boxes])
+
+
 def level_above(boxes, level, width):
     """The level from this one on, up to the next bend, at which the sum is the width."""
     p, q = minus(width, sum_at(boxes, level))
-    slope = sum([slope_above(box, level) for box in boxes])
-    return plus(level, lowest(p, q * slope))
+    return plus(level, lowest(p, q * sum_slope_above(boxes, level)))
 
 
 def last_bend(boxes, width, touching):

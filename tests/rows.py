@@ -1,5 +1,6 @@
 """Rows for the tests, and slow second ways to find what the program returns."""
 
+import itertools
 import random
 from fractions import Fraction
 
@@ -80,8 +81,8 @@ def some_widths(boxes, source):
     return [Fraction(width) for width in found if width >= 0]
 
 
-def rounds_share(boxes, width):
-    """The sizes by the rounds of point 8, which lead to those of point 7."""
+def play_rounds(boxes, width, choose=lambda found: found):
+    """The rounds of point 8 and the sizes at the end; choose takes some of the boxes that may be frozen."""
     width = Fraction(width)
     grows = sum(box.own for box in boxes) <= width
     weights = [box.grow if grows else box.shrink for box in boxes]
@@ -90,6 +91,7 @@ def rounds_share(boxes, width):
         above = box.most is not None and box.wish > box.most
         if weights[at] == 0 or (above if grows else box.wish < box.least):
             frozen[at] = Fraction(box.own)
+    played = [sorted(frozen)]
     while len(frozen) < len(boxes):
         free = [at for at in range(len(boxes)) if at not in frozen]
         rest = width - sum(frozen.values()) - sum(boxes[at].wish for at in free)
@@ -97,10 +99,21 @@ def rounds_share(boxes, width):
         shares = {at: boxes[at].wish + rest * weights[at] / heavy for at in free}
         fits = {at: limited(boxes[at], shares[at]) for at in free}
         off = sum(fits.values()) - sum(shares.values())
-        for at in free:
-            if off == 0 or (fits[at] > shares[at] if off > 0 else fits[at] < shares[at]):
-                frozen[at] = fits[at]
-    return [frozen[at] for at in range(len(boxes))]
+        chosen = choose([at for at in free
+                         if off == 0 or (fits[at] > shares[at] if off > 0 else fits[at] < shares[at])])
+        frozen.update({at: fits[at] for at in chosen})
+        played.append(chosen)
+    return played, [frozen[at] for at in range(len(boxes))]
+
+
+def rounds_share(boxes, width):
+    """The sizes by the rounds of point 8, which lead to those of point 7."""
+    return play_rounds(boxes, width)[1]
+
+
+def some_of(source):
+    """A way to choose some of a list, at least one, ascending."""
+    return lambda found: sorted(source.sample(found, source.randint(1, len(found))))
 
 
 def levels_to_try(boxes, sizes):
@@ -123,3 +136,14 @@ def slow_clash(boxes, sizes):
             if not fits[i] & fits[j]:
                 return (i, j)
     return None
+
+
+def parts_of_curve(curve):
+    """The points and the slope of a curve, as numbers."""
+    return [(fraction(width), fraction(value)) for width, value in curve.points], fraction(curve.slope)
+
+
+def bends_of(points, slope):
+    """The points, behind the first one, at which the slope changes."""
+    slopes = [(two[1] - one[1]) / Fraction(two[0] - one[0]) for one, two in itertools.pairwise(points)] + [Fraction(slope)]
+    return points[:1] + [points[at] for at in range(1, len(points)) if slopes[at - 1] != slopes[at]]

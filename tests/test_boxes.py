@@ -8,7 +8,7 @@ from fractions import Fraction
 from boxrows.boxes import Box, greatest_width, least_width, own_width
 from boxrows.errors import InvalidBox, InvalidBoxes, InvalidLevel, RowError
 from tests.rows import EXAMPLE, any_box, bounds, far_level, great_rows, numbers, pair, slow_size, slow_sum, small_rows
-from tests.wrong import NO_FRACTIONS, NO_NUMBERS, WRONG_BOXES
+from tests.wrong import NO_FRACTIONS, NO_NUMBERS, WRONG_BOXES, EqualToAll
 
 NAMES = ["wish", "least", "most", "grow", "shrink"]
 GREAT = 10 ** 30
@@ -98,13 +98,6 @@ class LevelTest(unittest.TestCase):
                 self.assertIs(caught.exception.__class__, InvalidLevel)
                 self.assertIsInstance(caught.exception, RowError)
         self.assertEqual(numbers(box), (10, 4, 20, 2, 1))
-
-
-class EqualToAll:
-    """A value that says that it equals each other one."""
-
-    def __eq__(self, other):
-        return True
 
 
 class EqualTest(unittest.TestCase):

@@ -1,4 +1,4 @@
-"""The examples of the document, word by word (sections 2 and 3 of the interface)."""
+"""The examples of the document, word by word (sections 2 to 7 of the interface)."""
 
 import doctest
 import unittest
@@ -25,6 +25,52 @@ SHARES = """
 [(0, 1), None, (0, 2)]
 """
 
+ROUNDS = """
+>>> from boxrows.boxes import Box
+>>> from boxrows.rounds import hard_row, is_rounds, rounds
+>>> boxes = [Box(0, most=9, grow=1), Box(0, most=10, grow=1), Box(0, grow=1)]
+>>> [rounds(boxes, 30), rounds(boxes, 40), is_rounds(boxes, 40, [[], [1], [0], [2]]), is_rounds(boxes, 30, [[], [1], [0], [2]])]
+[[[], [0], [1], [2]], [[], [0, 1], [2]], True, False]
+>>> hard, whole = hard_row(7)
+>>> [len(hard), len(rounds(hard, whole))]
+[7, 8]
+"""
+
+CURVES = """
+>>> from boxrows.boxes import Box
+>>> from boxrows.curves import Curve, box_curve
+>>> boxes = [Box(10, most=12, grow=1), Box(10, least=4, grow=2, shrink=1), Box(0, grow=1)]
+>>> one = box_curve(boxes, 0)
+>>> [one.points, one.slope, one(24), one.widths_of(11), one.widths_of(12), one.widths_of((25, 2))]
+[[((0, 1), (10, 1)), ((20, 1), (10, 1)), ((28, 1), (12, 1))], (0, 1), (11, 1), ((24, 1), (24, 1)), ((28, 1), None), None]
+>>> half, bent = Curve([((0, 1), (0, 1))], (1, 2)), Curve([((0, 1), (0, 1)), ((4, 1), (2, 1))], (1, 3))
+>>> [half.after(Curve([((0, 1), (3, 1))], (1, 1))).points, (half + bent).slope, half.differs_from(bent), half.falls_below(bent), bent.falls_below(half)]
+[[((0, 1), (3, 2))], (5, 6), 5, None, 5]
+"""
+
+LAYOUTS = """
+>>> from boxrows.boxes import Box
+>>> from boxrows.layouts import Layout, parts_of
+>>> one = Layout("a:10+1 x[ b:4/2+1~1 c:6-8+2~1 ]+1~2 d:0+1")
+>>> [one.names, len(one), one.least, one.own, one.most, parts_of(one, "x") == [Box(4, 2, None, 1, 1), Box(6, 0, 8, 2, 1)]]
+[['a', 'x', 'b', 'c', 'd'], 4, 12, 20, None, True]
+>>> two = Layout("{ a:5~1 | b:2-3+1 c:1 }+1")
+>>> [two.least, two.own, two.most]
+[5, 5, 5]
+"""
+
+PLACES = """
+>>> from boxrows.layouts import Layout
+>>> from boxrows.places import begin_of, breaks, places, size_curve, size_of, spare_of
+>>> one = Layout("a:10+1 x[ b:4/2+1~1 c:6-8+2~1 ]+1~2 d:0+1")
+>>> places(one, 26)
+[('a', (0, 1), (12, 1)), ('x', (12, 1), (12, 1)), ('b', (12, 1), (14, 3)), ('c', (50, 3), (22, 3)), ('d', (24, 1), (2, 1))]
+>>> [size_of(one, "c", 32), size_of(one, "c", 16), begin_of(one, "d", 16), spare_of(one, 11), breaks(one)]
+[(8, 1), (4, 1), (16, 1), (-1, 1), [(12, 1), (16, 1), (20, 1), (29, 1)]]
+>>> [size_curve(one, "c").points, size_curve(one, "c").slope]
+[[((0, 1), (0, 1)), ((12, 1), (0, 1)), ((16, 1), (4, 1)), ((20, 1), (6, 1)), ((29, 1), (8, 1))], (0, 1)]
+"""
+
 
 class ExamplesTest(unittest.TestCase):
     def check(self, text, many):
@@ -38,6 +84,18 @@ class ExamplesTest(unittest.TestCase):
 
     def test_shares(self):
         self.check(SHARES, 6)
+
+    def test_rounds(self):
+        self.check(ROUNDS, 6)
+
+    def test_curves(self):
+        self.check(CURVES, 7)
+
+    def test_layouts(self):
+        self.check(LAYOUTS, 6)
+
+    def test_places(self):
+        self.check(PLACES, 6)
 
 
 if __name__ == "__main__":

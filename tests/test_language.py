@@ -107,6 +107,22 @@ class LanguageTest(unittest.TestCase):
                 if isinstance(node, ast.ClassDef):
                     self.assertEqual(node.decorator_list, [], path.name)
 
+    def test_properties_are_not_assigned(self):
+        nodes = [node for tree in trees().values() for node in ast.walk(tree)]
+        properties = {node.name for node in nodes if isinstance(node, ast.FunctionDef)
+                      and any(isinstance(mark, ast.Name) and mark.id == "property" for mark in node.decorator_list)}
+        assigned = {node.attr for node in nodes if isinstance(node, ast.Attribute) and isinstance(node.ctx, ast.Store)}
+        self.assertLessEqual({"wish", "points", "names"}, properties)
+        self.assertEqual(properties & assigned, set())
+
+    def test_attributes_that_are_read_are_there(self):
+        nodes = [node for tree in trees().values() for node in ast.walk(tree)]
+        there = {node.attr for node in nodes if isinstance(node, ast.Attribute) and isinstance(node.ctx, ast.Store)}
+        there |= {node.name for node in nodes if isinstance(node, ast.FunctionDef)}
+        there |= {name for kind in (str, list, dict) for name in vars(kind)}
+        read = {node.attr for node in nodes if isinstance(node, ast.Attribute) and isinstance(node.ctx, ast.Load)}
+        self.assertEqual(read - there, set())
+
     def test_names(self):
         for path, tree in trees().items():
             bound = bound_names(tree)

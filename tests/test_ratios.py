@@ -28,6 +28,9 @@ class RatiosTest(unittest.TestCase):
             left, right = fraction(one), fraction(two)
             self.assertEqual(ratios.plus(one, two), pair(left + right))
             self.assertEqual(ratios.minus(one, two), pair(left - right))
+            self.assertEqual(ratios.times(one, two), pair(left * right))
+            if right > 0:
+                self.assertEqual(ratios.over(one, two), pair(left / right))
             sign = ratios.order(one, two)
             self.assertEqual([sign < 0, sign == 0, sign > 0], [left < right, left == right, left > right])
 
@@ -41,6 +44,8 @@ class RatiosTest(unittest.TestCase):
     def test_ascending(self):
         self.assertEqual(ratios.ascending(SOME + SOME), [pair(value) for value in sorted(set(map(fraction, SOME)))])
         self.assertEqual(ratios.ascending([]), [])
+        close = [pair(Fraction(top, bottom)) for bottom in range(1, 60) for top in (bottom - 1, bottom, bottom + 1)]
+        self.assertEqual(ratios.ascending(close), [pair(value) for value in sorted(set(map(fraction, close)))])
 
 
 if __name__ == "__main__":

@@ -4,10 +4,18 @@ from fractions import Fraction
 
 from boxrows.boxes import Box
 
+
+class EqualToAll:
+    """A value that says that it equals each other one."""
+
+    def __eq__(self, other):
+        return True
+
+
 NO_NUMBERS = [None, True, False, "1", b"1", 1.0, 1.5, Fraction(1), [], {}, set(), (), object(), int, Box(1)]
 
 NO_FRACTIONS = [
-    (1,), (1, 2, 3), [1, 2], (2, 4), (0, 2), (-4, 2), (3, 0), (0, 0), (1, -2), (-1, -2), (0, -1),
+    (1,), (1, 2, 3), [1, 2], (2, 4), (0, 2), (-4, 2), (3, 0), (1, 0), (-1, 0), (0, 0), (1, -2), (-1, -2), (0, -1),
     (True, 2), (1, True), (False, 1), (1.0, 2), (1, 2.0), ("1", 2), (None, 1), (1, None), ((1, 2), 1),
 ]
 
