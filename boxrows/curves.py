@@ -111,6 +111,11 @@ def curve_of(pieces):
     return curve
 
 
+def pieces_of(curve):
+    """The pieces of a curve: tuples (width, value, slope)."""
+    return curve._pieces
+
+
 def pieces_between(points, slope):
     """The pieces between points, and the one behind the last of them."""
     found = []
@@ -239,6 +244,11 @@ def first_fall(one, two):
         if whole is not None and (is_last or order((whole, 1), widths[at + 1]) <= 0):
             return whole
     return None
+
+
+def first_above(curve, number):
+    """The least whole width at which a curve is above an integer, or None."""
+    return first_fall([(ZERO, (number, 1), ZERO)], pieces_of(curve))
 
 
 def row_stops(boxes):

@@ -78,13 +78,18 @@ def way_to(layout, name):
     return way
 
 
+def row_place(layout, name):
+    """The row around a row with a name, and the index in it; InvalidName if no row has this name."""
+    row, index = way_to(layout, name)[-1]
+    if len(row[index].rows) != 1:
+        raise InvalidName("the name of a row is required")
+    return (row, index)
+
+
 def parts_of(layout, name):
     """The parts of a row, or for None of the outermost row, as boxes."""
     check_layout(layout)
     if name is None:
         return boxes_of(outermost_row(layout))
-    row, index = way_to(layout, name)[-1]
-    part = row[index]
-    if len(part.rows) != 1:
-        raise InvalidName("the name of a row is required")
-    return boxes_of(part.rows[0])
+    row, index = row_place(layout, name)
+    return boxes_of(row[index].rows[0])

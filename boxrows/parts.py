@@ -1,8 +1,8 @@
-"""The parts of rows, and how they are read from the words of a layout text."""
+"""The parts of rows, and how they are read from the words of a layout text, and written."""
 
 from boxrows.boxes import MOST_BOXES, greatest_width, least_width, own_width, wide_box
 from boxrows.errors import InvalidText
-from boxrows.words import box_in, is_name, weights_in
+from boxrows.words import box_in, box_word, is_name, weights_in, weights_text
 
 MOST_ROWS = 8
 MOST_BOXES_OF_TEXT = 120
@@ -132,3 +132,21 @@ def read_text(text):
     if reader.around:
         raise InvalidText(len(words))
     return reader
+
+
+def part_words(part):
+    """The words for a part."""
+    if not part.rows:
+        return [box_word(part.name, part.box)]
+    opening, closing = ("[", "]") if len(part.rows) == 1 else ("{", "}")
+    words = [(part.name or "") + opening]
+    for at, row in enumerate(part.rows):
+        if at > 0:
+            words.append("|")
+        words.extend(row_words(row))
+    return words + [closing + weights_text(part.box.grow, part.box.shrink)]
+
+
+def row_words(row):
+    """The words for the parts of a row."""
+    return [word for part in row for word in part_words(part)]

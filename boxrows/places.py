@@ -92,21 +92,45 @@ def begin_curve(layout, name):
     return begin
 
 
-def bends_in(row, given):
-    """The widths of the layout at which the slope of a box changes, in a row whose width is a curve."""
-    boxes = boxes_of(row)
-    stops = row_stops(boxes)
+def box_sizes_in(row, given):
+    """The tuples (name, size curve) of all boxes in a row whose width is a curve."""
+    stops = row_stops(boxes_of(row))
     found = []
     for part in row:
-        curve = curve_along(stops, [part.box]).after(given)
+        size = curve_along(stops, [part.box]).after(given)
         if not part.rows:
-            found.extend([width for width, _ in curve.points[1:]])
+            found.append((part.name, size))
         for inner in part.rows:
-            found.extend(bends_in(inner, curve))
+            found.extend(box_sizes_in(inner, size))
     return found
+
+
+def box_sizes(layout):
+    """The tuples (name, size curve) of all boxes of a layout, in the order of the text."""
+    return box_sizes_in(outermost_row(layout), same_width())
+
+
+def box_edges_in(row, begin, given):
+    """The tuples (name, begin curve, end curve) of all boxes in a row whose begin and width are curves."""
+    stops = row_stops(boxes_of(row))
+    found = []
+    for part in row:
+        size = curve_along(stops, [part.box]).after(given)
+        end = begin + size
+        if not part.rows:
+            found.append((part.name, begin, end))
+        for inner in part.rows:
+            found.extend(box_edges_in(inner, begin, size))
+        begin = end
+    return found
+
+
+def box_edges(layout):
+    """The tuples (name, begin curve, end curve) of all boxes of a layout, in the order of the text."""
+    return box_edges_in(outermost_row(layout), Curve([(ZERO, ZERO)], ZERO), same_width())
 
 
 def breaks(layout):
     """The ascending widths at which the slope of the size of some box changes."""
     check_layout(layout)
-    return ascending(bends_in(outermost_row(layout), same_width()))
+    return ascending([width for _, curve in box_sizes(layout) for width, _ in curve.points[1:]])

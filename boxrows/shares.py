@@ -23,6 +23,12 @@ def check_width(width):
         raise InvalidWidth("an integer or a fraction, not negative, is required")
 
 
+def check_whole(whole):
+    """Raise InvalidWidth unless the value is an integer from 0 on."""
+    if not is_int(whole) or whole < 0:
+        raise InvalidWidth("an integer from 0 on is required")
+
+
 def check_index(index, many):
     """Raise InvalidIndex unless the value is an integer from 0 on, less than many."""
     if not is_int(index) or not 0 <= index < many:

@@ -1,4 +1,4 @@
-"""The words of layout texts: names, boxes, and the weights behind brackets."""
+"""The words of layout texts, read and written: names, boxes, and the weights behind brackets."""
 
 from boxrows.boxes import HEAVIEST, WIDEST, Box
 
@@ -61,3 +61,19 @@ def weights_in(text):
     if head or not are_number_texts([grow, shrink], (HEAVIEST, HEAVIEST)):
         return None
     return (number_or(grow, 0), number_or(shrink, 0))
+
+
+def sign_text(sign, number):
+    """A sign with its number; the empty text for 0."""
+    return f"{sign}{number}" if number > 0 else ""
+
+
+def weights_text(grow, shrink):
+    """The text for two weights."""
+    return sign_text("+", grow) + sign_text("~", shrink)
+
+
+def box_word(name, box):
+    """The word for a box with a name."""
+    most = "" if box.most is None else f"-{box.most}"
+    return f"{name}:{box.wish}" + sign_text("/", box.least) + most + weights_text(box.grow, box.shrink)

@@ -1,4 +1,4 @@
-"""The examples of the document, word by word (sections 2 to 7 of the interface)."""
+"""The examples of the document, word by word (sections 2 to 10 of the interface)."""
 
 import doctest
 import unittest
@@ -71,6 +71,34 @@ PLACES = """
 [[((0, 1), (0, 1)), ((12, 1), (0, 1)), ((16, 1), (4, 1)), ((20, 1), (6, 1)), ((29, 1), (8, 1))], (0, 1)]
 """
 
+SAMES = """
+>>> from boxrows.layouts import Layout
+>>> from boxrows.sames import first_difference, first_unflat, flatten, is_flat, same_sizes
+>>> one = Layout("a:10+1 x[ b:4/2+1~1 c:6-8+2~1 ]+1~2 d:0+1")
+>>> [first_difference(one, Layout("a:10+1 b:4/2+1~1 c:6-8+2~1 d:0+1")), same_sizes(one, one), flatten(one, "x").text, first_unflat(one, "x")]
+[21, True, 'a:10+3 b:4/2+1~1 c:6-8+2~1 d:0+3', 30]
+>>> [is_flat(Layout("x[ a:1-3+1 b:1-9+1 ]+5"), "x"), is_flat(Layout("x[ a:1-3+1 b:1-9+1 ]+5 c:0+1"), "x"), flatten(Layout("x[ a:1-3+1 b:1-9+1 ]+5"), "x").text]
+[True, False, 'a:1-3+1 b:1-9+1']
+"""
+
+PIXELS = """
+>>> from boxrows.layouts import Layout
+>>> from boxrows.pixels import first_pixel_difference, pixel_size, pixels, same_pixels
+>>> one, two = Layout("a:10+1 x[ b:4/2+1~1 c:6-8+2~1 ]+1~2 d:0+1"), Layout("a:0+1 b:0+2")
+>>> [pixels(one, 26), [pixel_size(two, "b", whole) for whole in range(8)]]
+[[('a', 0, 12), ('x', 12, 12), ('b', 12, 5), ('c', 17, 7), ('d', 24, 2)], [0, 1, 1, 2, 3, 3, 4, 5]]
+>>> [first_pixel_difference(two, Layout("a:0+1 b:0+1")), same_pixels(two, Layout("a:0+2 b:0+4"))]
+[1, True]
+"""
+
+COUNTS = """
+>>> from boxrows.counts import count_widths, first_from, nth_width, total_pixels
+>>> from boxrows.layouts import Layout
+>>> two = Layout("a:0+1 b:0+2")
+>>> [count_widths(two, "a", 1, 0, 10 ** 30), nth_width(two, "a", 1, 2), first_from(two, "b", 3), total_pixels(two, "b", 0, 7)]
+[3, 4, 4, 19]
+"""
+
 
 class ExamplesTest(unittest.TestCase):
     def check(self, text, many):
@@ -96,6 +124,15 @@ class ExamplesTest(unittest.TestCase):
 
     def test_places(self):
         self.check(PLACES, 6)
+
+    def test_sames(self):
+        self.check(SAMES, 5)
+
+    def test_pixels(self):
+        self.check(PIXELS, 5)
+
+    def test_counts(self):
+        self.check(COUNTS, 4)
 
 
 if __name__ == "__main__":

@@ -1,6 +1,7 @@
 """Layouts for the tests, as trees, and slow second ways to read them and to find places."""
 
 import itertools
+import math
 import re
 from fractions import Fraction
 from typing import NamedTuple
@@ -134,6 +135,41 @@ def slow_places(row, begin, width):
             found += slow_places(inner, begin, size)
         begin += size
     return found
+
+
+class SlowLayout:
+    """What slow_places needs for a tree, found once for all widths."""
+
+    def __init__(self, tree):
+        self.row = self.prepared(tree)
+
+    def prepared(self, row):
+        return [(node, as_part(node), [self.prepared(inner) for inner in node.rows]) for node in row]
+
+    def placed(self, row, begin, width):
+        found = []
+        for (node, _, rows), size in zip(row, rounds_share([numbers for _, numbers, _ in row], width)):
+            found.append((node, begin, size))
+            for inner in rows:
+                found += self.placed(inner, begin, size)
+            begin += size
+        return found
+
+    def places(self, width):
+        """The node, the begin and the size of each part."""
+        return self.placed(self.row, Fraction(0), Fraction(width))
+
+    def box_sizes(self, width):
+        return {node.name: size for node, _, size in self.places(width) if node.numbers}
+
+    def pixels(self, width, boxes_only=False):
+        """The tuples of the name, the pixel begin and the pixel size of all names."""
+        found = []
+        for node, begin, size in self.places(width):
+            if node.name and (node.numbers or not boxes_only):
+                edge = math.floor(begin + Fraction(1, 2))
+                found.append((node.name, edge, math.floor(begin + size + Fraction(1, 2)) - edge))
+        return found
 
 
 def nodes(row):
