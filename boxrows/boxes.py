@@ -92,12 +92,20 @@ class Box:
 
 
 def wide_box(wish, least, most, grow, shrink):
-    """A box for a part of a layout; its widths may be greater than those that Box takes."""
-    box = Box(0, 0, None, grow, shrink)
+    """A box whose numbers may be greater than those that Box takes."""
+    box = Box(0)
     box._wish = wish
     box._least = least
     box._most = most
+    box._grow = grow
+    box._shrink = shrink
     return box
+
+
+def box_times(box, many):
+    """The box that takes, at each level, as much as so many boxes that are equal to this one."""
+    most = None if box.most is None else box.most * many
+    return wide_box(box.wish * many, box.least * many, most, box.grow * many, box.shrink * many)
 
 
 def weight_at(box, level):

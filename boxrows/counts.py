@@ -120,16 +120,13 @@ def first_from(layout, name, number):
     check_number(number)
     # Where the size is at most the next smaller number, the pixel size is, too; where
     # it is at least this number, the pixel size is, too.
-    first = first_above(size_curve(layout, name), number - 1)
-    if first is None:
-        return None
     for run in reversed(runs_above(layout, name, number - 1)):
         total = run.total()
         if total is None:
             return None
         if total > 0:
             return run.nth(total - 1) + 1
-    return first
+    return first_above(size_curve(layout, name), number - 1)
 
 
 def total_pixels(layout, name, low, high):

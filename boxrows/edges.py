@@ -69,25 +69,29 @@ def is_gentle(line):
     return 0 < line[0] < line[2]
 
 
-def first_split(one, two):
-    """The least x from 0 on at which two lines that do not fall differ, or None."""
+def first_split(one, two, last):
+    """The least x from 0 to last, or without end for None, at which two lines that do not fall differ, or None."""
     # Lines that rise by less than 1 differ first where the places of their steps
-    # differ first; these places are lines, too, with smaller numbers.
+    # differ first; these places are lines, too, with smaller numbers. end is the last
+    # step that counts then.
     turns = []
-    found = 0
+    found, end = 0, last
     while line_at(one, 0) == line_at(two, 0):
         rise, start = min(one[0] // one[2], two[0] // two[2]), line_at(one, 0)
         one, two = lowered(one, rise, start), lowered(two, rise, start)
         if not is_gentle(one) or not is_gentle(two):
             found = first_leaving(one, two)
             break
+        end = None if end is None else max(line_at(one, end), line_at(two, end)) - 1
+        if end is not None and end < 0:
+            return None
         one, two = turned(one), turned(two)
         turns.append((one, two))
     if found is None:
         return None
     for one, two in reversed(turns):
         found = min(line_at(one, found), line_at(two, found))
-    return found
+    return found if last is None or found <= last else None
 
 
 def edge_line(piece, first):
@@ -110,6 +114,13 @@ class Stretch:
     def many(self):
         """How many widths these are; only where they have an end."""
         return self.last - self.first + 1
+
+    def first_difference(self):
+        """The least one of these widths at which the edges of both curves differ, or None."""
+        if self.one == self.two:
+            return None
+        more = first_split(self.one, self.two, None if self.last is None else self.last - self.first)
+        return None if more is None else self.first + more
 
     def total(self, many):
         """The sum of the edges of the second curve less those of the first one, at the first many widths."""

@@ -1,6 +1,6 @@
 """Pixels: sizes laid on pixels, and whether two layouts lead to the same ones."""
 
-from boxrows.edges import first_split, stretches
+from boxrows.edges import stretches
 from boxrows.layouts import check_layout, way_to
 from boxrows.places import begin_of, box_edges, places, size_of
 from boxrows.ratios import plus
@@ -40,9 +40,9 @@ def first_other_edge(one, two):
     if one == two:
         return None
     for stretch in stretches(one, two):
-        more = None if stretch.one == stretch.two else first_split(stretch.one, stretch.two)
-        if more is not None and (stretch.last is None or stretch.first + more <= stretch.last):
-            return stretch.first + more
+        whole = stretch.first_difference()
+        if whole is not None:
+            return whole
     return None
 
 

@@ -39,7 +39,12 @@ class LinesTest(unittest.TestCase):
         for _ in range(8000):
             one = any_line(source)
             two = near_line(source, one) if source.random() < 0.7 else any_line(source)
-            self.assertEqual(first_split(one, two), slow_split(one, two, 3000), (one, two))
+            found = slow_split(one, two, 3000)
+            self.assertEqual(first_split(one, two, None), found, (one, two))
+            last = source.randint(0, source.choice([5, 40, 3000]))
+            self.assertEqual(first_split(one, two, last), None if found is None or found > last else found, (one, two, last))
+            if found is not None:
+                self.assertEqual(first_split(one, two, found), found)
 
     def test_first_split_far_away(self):
         source = random.Random(903)
@@ -48,15 +53,16 @@ class LinesTest(unittest.TestCase):
             slope = Fraction(source.randint(1, 10 ** 9), source.randint(1, 10 ** 9))
             one = (int(slope * m), source.randint(0, m), m)
             two = (int(slope * n), one[1] * n // m, n)
-            x = first_split(one, two)
+            x = first_split(one, two, None)
             if x is not None:
                 self.assertNotEqual(line_at(one, x), line_at(two, x))
                 # Up to there the sums are the same, as one of these lines does not fall below the other one.
                 if (Fraction(one[0], m) - Fraction(two[0], n)) * (Fraction(one[1], m) - Fraction(two[1], n)) >= 0:
                     self.assertEqual(line_sum(one, x), line_sum(two, x))
-        self.assertIsNone(first_split((7 * 10 ** 50, 3, 10 ** 51), (7, 0, 10)))
-        self.assertEqual(first_split((10 ** 40 + 1, 0, 10 ** 40), (1, 0, 1)), 10 ** 40)
-        self.assertEqual(first_split((10 ** 40 - 1, 10 ** 40 - 1, 10 ** 40), (1, 0, 1)), 10 ** 40)
+        self.assertIsNone(first_split((10 ** 40 + 1, 0, 10 ** 40), (1, 0, 1), 10 ** 40 - 1))
+        self.assertIsNone(first_split((7 * 10 ** 50, 3, 10 ** 51), (7, 0, 10), None))
+        self.assertEqual(first_split((10 ** 40 + 1, 0, 10 ** 40), (1, 0, 1), None), 10 ** 40)
+        self.assertEqual(first_split((10 ** 40 - 1, 10 ** 40 - 1, 10 ** 40), (1, 0, 1), None), 10 ** 40)
 
 
 class StretchesTest(unittest.TestCase):

@@ -1,4 +1,4 @@
-"""The examples of the document, word by word (sections 2 to 10 of the interface)."""
+"""The examples of the document, word by word (sections 2 to 14 of the interface)."""
 
 import doctest
 import unittest
@@ -99,6 +99,48 @@ COUNTS = """
 [3, 4, 4, 19]
 """
 
+LINES = """
+>>> from boxrows.boxes import Box
+>>> from boxrows.lines import count_lines, least_for, line_at, line_kinds, line_of, line_shares
+>>> boxes = [Box(3, grow=1), Box(4), Box(2)]
+>>> [count_lines(boxes, 1, 10 ** 30, 10), line_of(boxes, 1, 10 ** 30, 10, 7), line_at(boxes, 1, 10 ** 30, 10, 2), line_shares(boxes, 1, 10 ** 30, 10, 0)]
+[1500000000000000000000000000000, (3, 1), (4, 2), [(5, 1), (4, 1), None]]
+>>> [line_kinds(boxes, 1, 2, 10), least_for(boxes, 1, 2, 1), least_for(boxes, 1, 2, 2)]
+[[(0, 2, 1), (1, 2, 1), (2, 2, 1)], 23, 11]
+"""
+
+DRAGS = """
+>>> from boxrows.drags import dragged, fewest_drags, repeated, some_drags
+>>> [dragged([5, 5, 5], [2, 4, 1], 0, 3), dragged([5, 5, 5], [2, 4, 1], 1, -9), repeated([1, 9, 2], [0] * 3, [(0, 2)], 3), repeated([1, 9, 2], [0] * 3, [(0, 2)], 10 ** 30)]
+[[8, 4, 3], [2, 4, 9], [7, 3, 2], [12, 0, 0]]
+>>> [fewest_drags([3, 3, 1, 3], [0] * 4, [5, 0, 3, 2]), fewest_drags([0, 4, 5], [0] * 3, [2, 0, 7]), len(some_drags([3, 3, 1, 3], [0] * 4, [5, 0, 3, 2]))]
+[2, 2, 2]
+"""
+
+SHELVES = """
+>>> from boxrows.boxes import Box
+>>> from boxrows.shelves import FramedShelf, Shelf
+>>> one = Shelf(26)
+>>> [one.put("a", Box(10, grow=1)), one.put("d", Box(0, grow=1)), one.put("x", Box(10, least=2, grow=1, shrink=2), at=1), one.names]
+[(0, 1), (0, 1), (0, 1), ['a', 'x', 'd']]
+>>> [one.pixels_now, one.drag("a", 3), one.resize(30), one.undo(), one.log()]
+[[('a', 0, 12), ('x', 12, 12), ('d', 24, 2)], [15, 9, 2], (4, 1), None, ['put', 'put', 'put', 'drag']]
+>>> [one.preview(("resize", 5), ("change", "d", Box(1))), one.width_now, one == Shelf(26)]
+[[(-21, 1), (-20, 1)], 26, False]
+>>> framed = FramedShelf(30, 2)
+>>> [framed.put("a", Box(0, grow=1)), framed.pixels_now, framed.border]
+[(0, 1), [('a', 2, 26)], 2]
+"""
+
+CONSOLE = """
+>>> from boxrows.console import Console
+>>> one = Console()
+>>> [one.execute(row) for row in ["start 26", "put a:10+1", "put d:0+1", "put x:10/2+1~2 1", "names", "size x", "pixel d", "rounds", "drag a 3", "size a"]]
+['ok', '0', '0', '0', 'a x d', '12', '24 2', '1', '15 9 2', '15']
+>>> [one.execute(row) for row in ["undo", "resize 27", "size a", "take x", "spare", "change d:4-9", "undo", "undo", "names"]]
+['ok', '0', '37/3', 'x:10/2+1~2', '0', '0', 'ok', 'ok', 'a x d']
+"""
+
 
 class ExamplesTest(unittest.TestCase):
     def check(self, text, many):
@@ -133,6 +175,18 @@ class ExamplesTest(unittest.TestCase):
 
     def test_counts(self):
         self.check(COUNTS, 4)
+
+    def test_lines(self):
+        self.check(LINES, 5)
+
+    def test_drags(self):
+        self.check(DRAGS, 3)
+
+    def test_shelves(self):
+        self.check(SHELVES, 8)
+
+    def test_console(self):
+        self.check(CONSOLE, 4)
 
 
 if __name__ == "__main__":

@@ -151,6 +151,11 @@ class DifferencesTest(unittest.TestCase):
         self.assertFalse(same_pixels(heavy, light))
         self.assertGreater(first_pixel_difference(heavy, light), 30)
 
+    def test_lines_that_would_differ_behind_their_end(self):
+        # The ends of a are near w / 2 and near w up to w = 1, and 1 from w = 2 on.
+        one, two = Layout("a:0-1+1 b:0-1+1"), Layout("a:0-1+1000000 b:0-1+1")
+        self.assertEqual([first_pixel_difference(one, two), first_pixel_difference(two, one)], [None, None])
+
     def test_behind_very_many_widths(self):
         far = 10 ** 30
         one, two = Layout(f"a:0-{far}+1 b:0+1"), Layout("a:0+1 b:0+1")

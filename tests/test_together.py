@@ -1,4 +1,4 @@
-"""What holds between the answers of several functions (promise 37)."""
+"""What holds between the answers of several functions (promises 37 and 53)."""
 
 import itertools
 import random
@@ -6,14 +6,19 @@ import unittest
 from fractions import Fraction
 
 from boxrows.boxes import Box
+from boxrows.console import Console
 from boxrows.counts import count_widths, total_pixels
+from boxrows.drags import dragged, some_drags
 from boxrows.layouts import Layout
+from boxrows.lines import count_lines, least_for, line_at, line_kinds, line_of, line_shares
 from boxrows.pixels import first_pixel_difference, pixel_size, pixels, same_pixels
 from boxrows.places import breaks, places, size_curve, spare_of
 from boxrows.sames import first_difference, same_sizes
 from boxrows.shares import share
+from boxrows.shelves import FramedShelf, Shelf
+from tests.models import SlowShelf, any_call, box_text
 from tests.pairs import all_numbers, any_tree, box_nodes, text_of, times_weights, turned, variants, weights_of, with_weights
-from tests.rows import any_row, fraction, numbers, pair, some_widths
+from tests.rows import any_box, any_row, fraction, numbers, pair, some_widths
 from tests.trees import GREAT, HEAVY, Node, Numbers, layout_widths, nodes
 
 
@@ -209,6 +214,129 @@ class PixelsTest(unittest.TestCase):
             layout = Layout(text_of(box_row([box])))
             for width in range(15):
                 self.assertEqual((pixel_size(layout, "a", width), 1), share([box], width)[0])
+
+
+class LinesTest(unittest.TestCase):
+    def patterns(self, seed, many=60):
+        source = random.Random(seed)
+        for _ in range(many):
+            boxes = any_row(source, 5, 6)
+            yield boxes, source.randint(0, 2), source.randint(1, 6), source.randint(0, 25)
+
+    def test_lines_are_rows_and_have_all_boxes(self):
+        for boxes, gap, times, whole in self.patterns(981):
+            found = []
+            for index in range(count_lines(boxes, gap, times, whole)):
+                first, length = line_at(boxes, gap, times, whole, index)
+                line = range(first, first + length)
+                found.extend(line)
+                self.assertTrue(all(line_of(boxes, gap, times, whole, box) == (index, box - first) for box in line))
+                sizes = line_shares(boxes, gap, times, whole, index)
+                row = [boxes[box % len(boxes)] for box in line]
+                if length <= 40:
+                    self.assertEqual([sizes[box % len(boxes)] for box in line], share(row, whole - gap * (length - 1)))
+                missing = [at for at in range(len(boxes)) if at not in {box % len(boxes) for box in line}]
+                self.assertEqual([at for at in range(len(boxes)) if sizes[at] is None], missing)
+            self.assertEqual(found, list(range(len(boxes) * times)))
+
+    def test_lines_of_one_kind_have_the_same_sizes(self):
+        for boxes, gap, times, whole in self.patterns(982):
+            sizes = {}
+            for index in range(count_lines(boxes, gap, times, whole)):
+                first, length = line_at(boxes, gap, times, whole, index)
+                sizes.setdefault((first % len(boxes), length), []).append(line_shares(boxes, gap, times, whole, index))
+            self.assertEqual([(place, length, len(sizes[(place, length)])) for place, length in sorted(sizes)], line_kinds(boxes, gap, times, whole))
+            for rows in sizes.values():
+                self.assertEqual(rows, rows[:1] * len(rows))
+
+    def test_no_other_way_to_break_is_better(self):
+        for boxes, gap, times, whole in self.patterns(983, 40):
+            owns = [box.own for box in boxes] * times
+            fewest = [0]
+            for end in range(1, len(owns) + 1):
+                fits = [begin for begin in range(end) if sum(owns[begin:end]) + gap * (end - begin - 1) <= whole or begin == end - 1]
+                fewest.append(1 + min(fewest[begin] for begin in fits))
+            self.assertEqual(count_lines(boxes, gap, times, whole), fewest[-1])
+
+    def test_a_greater_width_never_leads_to_more_lines(self):
+        source = random.Random(984)
+        for boxes, gap, _, _ in self.patterns(985, 20):
+            for times, wholes in ((7, range(60)), (GREAT, sorted(source.randint(0, 10 ** 33) for _ in range(10)))):
+                counts = [count_lines(boxes, gap, times, whole) for whole in wholes]
+                self.assertEqual(counts, sorted(counts, reverse=True))
+                for number in counts[::4]:
+                    self.assertLessEqual(least_for(boxes, gap, times, number), wholes[counts.index(number)])
+
+
+class ShelvesTest(unittest.TestCase):
+    def shelves(self, seed, many=25):
+        """Shelves, frames among them, and the boxes in their rows."""
+        source = random.Random(seed)
+        for at in range(many):
+            shelf = Shelf(source.randint(0, 60)) if at % 2 else FramedShelf(source.randint(0, 60), source.randint(0, 5))
+            boxes = [any_box(source) for _ in range(source.randint(1, 7))]
+            for name, box in zip("abcdefgh", boxes):
+                shelf.put(name, box)
+            border = 0 if at % 2 else shelf.border
+            yield shelf, boxes, border, max(0, shelf.width_now - 2 * border), source
+
+    def test_shares_and_pixels_are_those_of_the_row(self):
+        for shelf, boxes, border, room, _ in self.shelves(991):
+            layout = Layout(text_of(box_row(boxes)))
+            self.assertEqual([size for _, size in shelf.shares_now], share(boxes, room))
+            self.assertEqual(shelf.shares_now, [(name, size) for name, _, size in places(layout, room)])
+            self.assertEqual(shelf.pixels_now, [(name, begin + border, size) for name, begin, size in pixels(layout, room)])
+            self.assertEqual(shelf.resize(shelf.width_now), spare_of(layout, room))
+
+    def test_a_drag_leads_to_the_sizes_of_dragged(self):
+        for shelf, boxes, _, _, source in self.shelves(992):
+            if len(boxes) < 2:
+                continue
+            index, number = source.randrange(len(boxes) - 1), source.randint(-20, 20)
+            sizes = [size for _, _, size in shelf.pixels_now]
+            leasts = [min(size, box.least) for size, box in zip(sizes, boxes)]
+            self.assertEqual(shelf.drag(shelf.names[index], number), dragged(sizes, leasts, index, number))
+
+    def test_drags_on_a_shelf_lead_to_the_goal(self):
+        source = random.Random(993)
+        for _ in range(40):
+            leasts = [source.randint(0, 3) for _ in range(source.randint(2, 7))]
+            sizes = [least + source.randint(0, 6) for least in leasts]
+            goal = list(sizes)
+            for _ in range(4):
+                goal = dragged(goal, leasts, source.randrange(len(goal) - 1), source.randint(-9, 9))
+            shelf = Shelf(sum(sizes))
+            for name, size, least in zip("abcdefgh", sizes, leasts):
+                shelf.put(name, Box(size, least))
+            for index, number in some_drags(sizes, leasts, goal):
+                sizes = dragged(sizes, leasts, index, number)
+                self.assertEqual(shelf.drag(shelf.names[index], number), sizes)
+            self.assertEqual([size for _, _, size in shelf.pixels_now], goal)
+
+    def test_a_console_and_previews_answer_alike(self):
+        source = random.Random(994)
+        for _ in range(20):
+            shelf, slow, console = Shelf(33), SlowShelf(33), Console()
+            console.execute("start 33")
+            for _ in range(15):
+                step = any_call(source, slow, any_box)[:3]
+                getattr(slow, step[0])(*step[1:])
+                before = Shelf(33) == shelf
+                told = shelf.preview(step)
+                self.assertEqual(Shelf(33) == shelf, before)
+                value = getattr(shelf, step[0])(*step[1:])
+                self.assertTrue(told == [value])
+                words = [box_text(step[1], step[2])] if step[0] in ("put", "change") else [str(word) for word in step[1:]]
+                answer = console.execute(" ".join([step[0]] + words))
+                if step[0] == "take":
+                    self.assertEqual(answer, box_text(step[1], value))
+                elif step[0] == "drag":
+                    self.assertEqual(answer, " ".join(map(str, value)))
+                else:
+                    self.assertEqual(Fraction(answer), fraction(value))
+                for name, begin, size in shelf.pixels_now:
+                    self.assertEqual(console.execute(f"pixel {name}"), f"{begin} {size}")
+                self.assertEqual(console.execute("names"), " ".join(shelf.names) or "-")
 
 
 if __name__ == "__main__":
