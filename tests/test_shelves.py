@@ -213,6 +213,15 @@ class DragTest(unittest.TestCase):
                 self.assertEqual([caught.exception.limit, seen(one)], [GREAT, before])
             else:
                 self.assertEqual(sum(one.drag("a", number)), whole)
+        # A pixel size is too great, but no new size would be.
+        one = Shelf(GREAT + 1)
+        one.put("a", Box(0, grow=1))
+        one.put("b", Box(0))
+        with self.assertRaises(TooLarge) as caught:
+            one.drag("a", -1)
+        self.assertEqual([caught.exception.limit, one.log()], [GREAT, ["put", "put"]])
+        one.resize(GREAT)
+        self.assertEqual(one.drag("a", -1), [GREAT - 1, 1])
         one = Shelf(10 ** 99)
         one.put("a", Box(5))
         one.put("b", Box(0, grow=1))
