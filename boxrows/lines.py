@@ -31,9 +31,10 @@ def boxes_that_fit(costs, place, room):
 class Lines:
     """The lines of a pattern, each given by its first box."""
 
-    # A line depends only on its place, that is where it begins in the pattern; so from
-    # the line again on, with a place that comes a second time, all come again and
-    # again. starts holds the first boxes of the lines up to this second time.
+    # How long a line is depends only on its place: where it begins in the pattern.
+    # again is the first line whose place comes a second time, so from there on the same
+    # lines come again and again. starts holds the first boxes of all lines up to the one
+    # with which they begin to do so.
     def __init__(self, boxes, gap, times, whole):
         self.wide = len(boxes)
         self.amount = len(boxes) * times

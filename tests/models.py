@@ -1,12 +1,10 @@
-"""A slow shelf for the tests: lists of names and numbers, and all earlier ones for undo."""
+"""Slow drags and a slow shelf for the tests: lists of names and numbers, and all earlier ones for undo."""
 
 import math
 from fractions import Fraction
 
 from boxrows.boxes import Box
 from tests.rows import numbers, pair, rounds_share
-
-GREAT = 10 ** 30
 
 
 def box_text(name, box):
@@ -17,7 +15,7 @@ def box_text(name, box):
 
 
 def slow_dragged(sizes, leasts, index, number):
-    """The sizes when a divider is dragged, unit by unit where the number is small."""
+    """The sizes when a divider is dragged, box by box, word by word as in section 12."""
     sizes = list(sizes)
     givers = range(index + 1, len(sizes)) if number > 0 else range(index, -1, -1)
     taker, rest = (index, number) if number > 0 else (index + 1, -number)

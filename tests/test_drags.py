@@ -7,27 +7,12 @@ import unittest
 from boxrows import drags as module
 from boxrows.drags import dragged, fewest_drags, repeated, some_drags
 from boxrows.errors import InvalidDrags, InvalidGoal, InvalidIndex, InvalidNumber, InvalidSizes, InvalidTimes, MixedDrags, TooLarge
+from tests.models import slow_dragged
 from tests.wrong import NO_FRACTIONS, NO_NUMBERS, WRONG_NUMBERS, wrong_indexes
 
 GREAT = 10 ** 30
 FAR = 10 ** 99
 NO_INTEGERS = NO_NUMBERS + NO_FRACTIONS + [(1, 1), (1, 2), (0, 1)]
-
-
-def slow_dragged(sizes, leasts, index, number):
-    """Box by box, word by word as in section 12."""
-    sizes = list(sizes)
-    if number > 0:
-        givers, taker = range(index + 1, len(sizes)), index
-    else:
-        givers, taker = range(index, -1, -1), index + 1
-    rest = abs(number)
-    for giver in givers:
-        given = min(rest, sizes[giver] - leasts[giver])
-        sizes[giver] -= given
-        sizes[taker] += given
-        rest -= given
-    return sizes
 
 
 def slow_repeated(sizes, leasts, drags, times):
